@@ -1,0 +1,1 @@
+"""Laneswap: tables spread over lanes, and the fewest exchanges between them."""

@@ -1,0 +1,56 @@
+import inspect
+import unittest
+from importlib import import_module
+
+FUNCTIONS = {
+    "words": {"added": ["words"], "ones": ["word"], "word_of": ["bits"], "odd": ["word", "test"]},
+    "spaces": {"every": ["bits"], "shared_complement": ["one", "other"]},
+    "maps": {"unit_map": ["bits"]},
+    "spreads": {"renaming": ["one", "other"], "hold_alike": ["one", "other"], "matching": ["one", "other"]},
+    "rounds": {"lacks": ["one", "other", "lane"], "fewest_rounds": ["one", "other"], "short_lane": ["one", "other"],
+               "plan_rounds": ["one", "other"]},
+}
+METHODS = {
+    ("spaces", "Space"): {
+        "__init__": ["bits", "words"], "__contains__": None, "__and__": None, "__add__": None, "__eq__": None,
+        "inside": ["other"], "least": ["word"], "listed": ["word"], "completing": ["other"], "complement": []},
+    ("maps", "Map"): {
+        "__init__": ["goal", "columns"], "__call__": ["word"], "__getitem__": None, "__iter__": None, "__mul__": None,
+        "__add__": None, "__invert__": None, "__floordiv__": None, "__eq__": None, "rank": [], "kernel": [],
+        "image": [], "solve": ["word"], "turned": [], "moved": ["space"], "origin": ["space"], "beside": ["other"],
+        "stacked": ["other"]},
+    ("spreads", "Spread"): {
+        "__init__": ["bits", "slots", "lanes"], "__or__": None, "__floordiv__": None, "__eq__": None,
+        "entry": ["slot", "lane"], "lane_of": ["entry"], "slot_of": ["entry", "lane"], "held": ["lane"],
+        "slot_space": [], "lane_space": [], "twins": [], "copies": [], "placing": [], "together": ["entries"],
+        "renamed": ["change"], "parts": []},
+    ("tables", "Table"): {
+        "__init__": ["groups"], "__eq__": None, "part": ["name"], "write_word": ["word"], "read_word": ["text"],
+        "write": ["spread"], "read": ["text"]},
+    ("rounds", "RoundPlan"): {"take": ["number", "lane"], "when": ["lane", "entry"]},
+}
+
+
+class InterfaceTest(unittest.TestCase):
+
+    def test_functions(self):
+        for name, functions in FUNCTIONS.items():
+            module = import_module("laneswap." + name)
+            for function, parameters in functions.items():
+                made = getattr(module, function)
+                self.assertEqual(made.__module__, "laneswap." + name)
+                self.assertEqual(list(inspect.signature(made).parameters), parameters)
+
+    def test_methods_stand_in_the_class_itself(self):
+        for (name, kind), methods in METHODS.items():
+            made = getattr(import_module("laneswap." + name), kind)
+            self.assertEqual(made.__module__, "laneswap." + name)
+            for method, parameters in methods.items():
+                self.assertIn(method, vars(made))
+                if parameters is not None:
+                    found = list(inspect.signature(vars(made)[method]).parameters)
+                    self.assertEqual(found[1:], parameters, (kind, method))
+
+
+if __name__ == "__main__":
+    unittest.main()
