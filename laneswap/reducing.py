@@ -45,6 +45,11 @@ def units(bits):
     return [1 << bit for bit in range(bits)]
 
 
+def low_bits(word, many):
+    """The word of the so many lowest bits of word."""
+    return word & ((1 << many) - 1)
+
+
 def image_of(columns, word):
     """The sum of those columns whose bits are 1 in word."""
     image = 0

@@ -1,8 +1,9 @@
 """Drawn spreads and maps, always the same for the same seed."""
 
 import random
+from itertools import permutations
 
-from laneswap.maps import Map
+from laneswap.maps import Map, unit_map
 from laneswap.spaces import Space
 from laneswap.spreads import Spread
 
@@ -55,3 +56,76 @@ def places_of(spread):
                 entry ^= word * (lane // 2 ** bit % 2)
             found[slot, lane] = entry
     return found
+
+
+def drawn_changes(seed, many, most=3):
+    """Pairs of Spreads that fit, of few bits, with and without copies."""
+    draw = random.Random(seed)
+    for _ in range(many):
+        bits = draw.randrange(most + 1)
+        one = drawn_spread(draw, bits, draw.randrange(most + 1))
+        lanes = len(one.lanes)
+        slots = max(0, bits - lanes) + draw.randrange(3)
+        yield one, drawn_spread(draw, bits, slots, lanes)
+
+
+def held_by(spread):
+    """The set of entries of each lane, told place by place."""
+    found = []
+    for lane in range(2 ** len(spread.lanes)):
+        found.append({spread.entry(slot, lane) for slot in range(2 ** len(spread.slots))})
+    return found
+
+
+def all_undoable(bits):
+    """All Maps of so few bits that can be undone."""
+    words = range(1, 2 ** bits)
+    return [made for made in (Map(bits, columns) for columns in permutations(words, bits)) if made.rank() == bits]
+
+
+def drawn_map(draw, goal, source):
+    """A Map to so many bits, with so many columns."""
+    return Map(goal, [draw.randrange(2 ** goal) for _ in range(source)])
+
+
+def move_of(within_slots, to_lanes, to_slots, within_lanes):
+    """The Map of place words that leads (s, l) to (within_slots(s) + to_slots(l), to_lanes(s) + within_lanes(l))."""
+    return within_slots.stacked(to_lanes).beside(to_slots.stacked(within_lanes))
+
+
+def zero_map(goal, source):
+    return Map(goal, [0] * source)
+
+
+def drawn_slot_move(draw, slots, lanes, uneven=True):
+    to_slots = drawn_map(draw, slots, lanes) if uneven else zero_map(slots, lanes)
+    return move_of(drawn_undoable(draw, slots), zero_map(lanes, slots), to_slots, unit_map(lanes))
+
+
+def drawn_lane_move(draw, slots, lanes):
+    return move_of(unit_map(slots), drawn_map(draw, lanes, slots), zero_map(slots, lanes), drawn_undoable(draw, lanes))
+
+
+def drawn_moves(draw, slots, lanes):
+    """Moves of each kind with so many slot bits and lane bits."""
+    slot_move, even = drawn_slot_move(draw, slots, lanes), drawn_slot_move(draw, slots, lanes, False)
+    lane_move = drawn_lane_move(draw, slots, lanes)
+    few = [drawn_undoable(draw, slots + lanes), slot_move, even, lane_move, lane_move * even, even * lane_move,
+           lane_move * slot_move, slot_move * lane_move, drawn_slot_move(draw, slots, lanes) * lane_move * slot_move]
+    bits = list(range(slots + lanes))
+    draw.shuffle(bits)
+    # Moves that lead bits to bits have blocks of all ranks.
+    return few + [unit_map(slots + lanes), Map(slots + lanes, [1 << bit for bit in bits])]
+
+
+def drawn_far(draw, bits, slots, lanes):
+    """A Spread of so many bits, slot words and lane words, of as many bits as one likes."""
+    words = list(drawn_undoable(draw, bits).columns)
+    words += thinned(draw, [draw.getrandbits(bits) for _ in range(slots + lanes - bits)])
+    draw.shuffle(words)
+    return Spread(bits, words[:slots], words[slots:])
+
+
+def drawn_plain(draw, slots, lanes):
+    """A Spread without copies."""
+    return drawn_far(draw, slots + lanes, slots, lanes)

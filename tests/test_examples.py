@@ -2,6 +2,8 @@ import unittest
 
 from tests.examples import all_examples, answer
 
+MODULES = "words spaces maps spreads tables rounds moves stages hops sums".split()
+
 
 class ExamplesTest(unittest.TestCase):
 
@@ -13,9 +15,9 @@ class ExamplesTest(unittest.TestCase):
 
     def test_there_are_examples_of_each_module(self):
         codes = "\n".join([code for code, _ in all_examples()])
-        for module in ("words", "spaces", "maps", "spreads", "tables", "rounds"):
+        for module in MODULES:
             self.assertIn(f"from laneswap.{module} import", codes)
-        self.assertEqual(len([code for code, expected in all_examples() if expected]), 19)
+        self.assertEqual(len([code for code, expected in all_examples() if expected]), 29)
 
 
 if __name__ == "__main__":

@@ -9,6 +9,12 @@ FUNCTIONS = {
     "spreads": {"renaming": ["one", "other"], "hold_alike": ["one", "other"], "matching": ["one", "other"]},
     "rounds": {"lacks": ["one", "other", "lane"], "fewest_rounds": ["one", "other"], "short_lane": ["one", "other"],
                "plan_rounds": ["one", "other"]},
+    "moves": {"move_between": ["one", "other"], "keeps_lanes": ["move", "slots"], "keeps_slots": ["move", "slots"],
+              "is_even": ["move", "slots"], "uneven_parts": ["move", "slots"], "split_move": ["move", "slots"]},
+    "stages": {"drift": ["move", "slots"], "fewest_stages": ["move", "slots"], "drifting": ["move", "slots"],
+               "plan_stages": ["move", "slots"]},
+    "hops": {"fewest_hops": ["one", "other"], "plan_hops": ["one", "other"]},
+    "sums": {"partners": ["spread", "space"], "sum_rounds": ["spread", "space"], "sum_steps": ["spread", "space"]},
 }
 METHODS = {
     ("spaces", "Space"): {
@@ -28,6 +34,10 @@ METHODS = {
         "__init__": ["groups"], "__eq__": None, "part": ["name"], "write_word": ["word"], "read_word": ["text"],
         "write": ["spread"], "read": ["text"]},
     ("rounds", "RoundPlan"): {"take": ["number", "lane"], "when": ["lane", "entry"]},
+    ("stages", "Stage"): {"__init__": ["slot_bits", "lane_bits", "step", "test"], "place": ["word"], "moving": []},
+    ("stages", "StagePlan"): {},
+    ("hops", "HopPlan"): {"route": ["lane", "entry"]},
+    ("sums", "SumPlan"): {"__init__": ["spread", "space"], "take": ["number", "lane"], "home": ["entry"]},
 }
 
 

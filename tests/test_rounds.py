@@ -6,27 +6,8 @@ from laneswap.errors import BadValue, NotFitting
 from laneswap.rounds import RoundPlan, fewest_rounds, lacks, plan_rounds, short_lane
 from laneswap.spaces import Space
 from laneswap.spreads import Spread
-from tests.drawing import drawn_spread
+from tests.drawing import drawn_changes, drawn_spread, held_by
 from tests.wrong import any_spread, below, check_names, check_wrong, word
-
-
-def drawn_changes(seed, many, most=3):
-    """Pairs of Spreads that fit, of few bits, with and without copies."""
-    draw = random.Random(seed)
-    for _ in range(many):
-        bits = draw.randrange(most + 1)
-        one = drawn_spread(draw, bits, draw.randrange(most + 1))
-        lanes = len(one.lanes)
-        slots = max(0, bits - lanes) + draw.randrange(3)
-        yield one, drawn_spread(draw, bits, slots, lanes)
-
-
-def held_by(spread):
-    """The set of entries of each lane, told place by place."""
-    found = []
-    for lane in range(2 ** len(spread.lanes)):
-        found.append({spread.entry(slot, lane) for slot in range(2 ** len(spread.slots))})
-    return found
 
 
 class LacksTest(unittest.TestCase):
