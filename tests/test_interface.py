@@ -15,6 +15,10 @@ FUNCTIONS = {
                "plan_stages": ["move", "slots"]},
     "hops": {"fewest_hops": ["one", "other"], "plan_hops": ["one", "other"]},
     "sums": {"partners": ["spread", "space"], "sum_rounds": ["spread", "space"], "sum_steps": ["spread", "space"]},
+    "writes": {"write_count": ["spread"]},
+    "stores": {"fitting": ["spreads", "widths"], "chain": ["spreads", "widths"],
+               "store_for": ["one", "other", "widths", "banks"]},
+    "prices": {"by_rounds": ["one", "other", "prices"], "by_store": ["one", "other", "prices", "banks", "widest"]},
 }
 METHODS = {
     ("spaces", "Space"): {
@@ -38,6 +42,11 @@ METHODS = {
     ("stages", "StagePlan"): {},
     ("hops", "HopPlan"): {"route": ["lane", "entry"]},
     ("sums", "SumPlan"): {"__init__": ["spread", "space"], "take": ["number", "lane"], "home": ["entry"]},
+    ("writes", "Writes"): {"__init__": ["spread"], "slot_in": ["number", "lane"]},
+    ("stores", "Store"): {
+        "__init__": ["change", "banks"], "bank": ["entry"], "bank_map": [], "meeting": ["space"],
+        "fits": ["spread", "width"], "touched": ["spread", "width"], "beats": ["spread", "width"]},
+    ("prices", "Prices"): {"__init__": ["swap", "transfer", "beat"]},
 }
 
 
