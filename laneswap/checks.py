@@ -6,9 +6,14 @@ LETTERS = "abcdefghijklmnopqrstuvwxyz"
 LONGEST_NAME = 8
 
 
+def is_integer(value):
+    """Whether value is an integer; True and False are none."""
+    return isinstance(value, int) and not isinstance(value, bool)
+
+
 def is_whole(value):
-    """Whether value is an integer from 0 on; True and False are no integers."""
-    return isinstance(value, int) and not isinstance(value, bool) and value >= 0
+    """Whether value is an integer from 0 on."""
+    return is_integer(value) and value >= 0
 
 
 def is_word(value, bits):
@@ -26,6 +31,12 @@ def is_name(value):
 def is_list(value):
     """Whether value is a list or a tuple, which may stand for each other."""
     return isinstance(value, (list, tuple))
+
+
+def check_integer(value):
+    """BadValue unless value is an integer."""
+    if not is_integer(value):
+        raise BadValue(value)
 
 
 def check_whole(value):
@@ -56,6 +67,13 @@ def check_list(values):
     """BadValue unless values is a list."""
     if not is_list(values):
         raise BadValue(values)
+
+
+def check_integers(values):
+    """BadValue of what is no list, or of its first item that is no integer."""
+    check_list(values)
+    for value in values:
+        check_integer(value)
 
 
 def check_wholes(values):

@@ -1,8 +1,9 @@
 """Drawn spreads and maps, always the same for the same seed."""
 
 import random
-from itertools import permutations
+from itertools import permutations, product
 
+from laneswap.families import Family
 from laneswap.maps import Map, unit_map
 from laneswap.spaces import Space
 from laneswap.spreads import Spread
@@ -129,3 +130,94 @@ def drawn_far(draw, bits, slots, lanes):
 def drawn_plain(draw, slots, lanes):
     """A Spread without copies."""
     return drawn_far(draw, slots + lanes, slots, lanes)
+
+
+def drawn_space(draw, bits):
+    """A Space of so few bits, of any dimension."""
+    return Space(bits, [draw.randrange(2 ** bits) for _ in range(draw.randrange(bits + 2))])
+
+
+def all_spaces(bits):
+    """All Spaces of so few bits."""
+    found = []
+    for words in product(range(2 ** bits), repeat=bits):
+        made = Space(bits, words)
+        if made not in found:
+            found.append(made)
+    return found
+
+
+def drawn_triple(draw, bits, numbers):
+    """Three Spaces with these nine numbers, which fill the bits."""
+    words = list(drawn_undoable(draw, bits).columns)
+    sets = [(0, 1, 2), (0, 1), (0, 2), (1, 2), None, (0,), (1,), (2,), ()]
+    held = [[], [], []]
+    for many, chosen in zip(numbers, sets):
+        for _ in range(many):
+            one = words.pop()
+            if chosen is None:
+                two = words.pop()
+                for at, word in enumerate((one, two, one ^ two)):
+                    held[at].append(word)
+            else:
+                for at in chosen:
+                    held[at].append(one)
+    return [Space(bits, each) for each in held]
+
+
+def kernels_of_all_maps(bits, banks):
+    """For each map from so few bits to so many the words with image 0, as the bits that are 1 in a number."""
+    found = []
+    for columns in product(range(2 ** banks), repeat=bits):
+        images = [0]
+        for column in columns:
+            images += [image ^ column for image in images]
+        found.append(sum([1 << word for word, image in enumerate(images) if image == 0]))
+    return found
+
+
+def marked(space):
+    """The words of a Space of few bits, as the bits that are 1 in a number."""
+    return sum([1 << word for word in space.listed()])
+
+
+def drawn_tracks(draw, names="abcd"):
+    """At most two tracks."""
+    return [(name, draw.choice((0, 0, 0, 1, 3))) for name in draw.sample(names, draw.choice((0, 1, 1, 1, 2, 2)))]
+
+
+def drawn_family(draw, outs, ins, many):
+    """A Family with so many rules, none where there are no tracks."""
+    rules = []
+    for _ in range(many if outs and ins else 0):
+        out, source, kind = draw.choice(outs)[0], draw.choice(ins)[0], draw.choice(("line", "line", "mirror", "point"))
+        if kind == "point":
+            rules.append((kind, out, draw.randrange(-4, 4), source, draw.randrange(-4, 4)))
+        else:
+            rules.append((kind, out, source, draw.randrange(-2, 3)))
+        if draw.randrange(9) == 0:
+            rules.append(draw.choice(rules))
+    return Family(outs, ins, rules)
+
+
+def images_of(family, n):
+    """The columns of a Family at a size, told rule by rule as the document does."""
+    outs = {(name, bit): 0 for name, extra in family.outs for bit in range(n + extra)}
+    outs = {key: number for number, key in enumerate(outs)}
+    ins = {(name, bit): 0 for name, extra in family.ins for bit in range(n + extra)}
+    ins = {key: number for number, key in enumerate(ins)}
+    columns = [0] * len(ins)
+    for rule in family.rules:
+        if rule[0] == "point":
+            _, out, place, source, origin = rule
+            place += 0 if place >= 0 else n + dict(family.outs)[out]
+            origin += 0 if origin >= 0 else n + dict(family.ins)[source]
+            pairs = [((out, place), (source, origin))]
+        elif rule[0] == "line":
+            pairs = [((rule[1], bit), (rule[2], bit + rule[3])) for bit in range(n + 9)]
+        else:
+            pairs = [((rule[1], bit), (rule[2], n - 1 - bit + rule[3])) for bit in range(n + 9)]
+        for goal, source in pairs:
+            if goal in outs and source in ins:
+                columns[ins[source]] ^= 1 << outs[goal]
+    return columns

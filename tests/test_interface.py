@@ -19,6 +19,10 @@ FUNCTIONS = {
     "stores": {"fitting": ["spreads", "widths"], "chain": ["spreads", "widths"],
                "store_for": ["one", "other", "widths", "banks"]},
     "prices": {"by_rounds": ["one", "other", "prices"], "by_store": ["one", "other", "prices", "banks", "widest"]},
+    "threes": {"jam": ["access", "bank_map"], "filled": ["three"], "least_banks": ["three"],
+               "free_banks": ["three", "banks"], "best_banks": ["three", "banks", "weights"]},
+    "cores": {"own_number": ["spaces", "chosen"], "core": ["spaces"], "free_for_all": ["spaces", "banks"],
+              "least_for_all": ["spaces"]},
 }
 METHODS = {
     ("spaces", "Space"): {
@@ -47,6 +51,16 @@ METHODS = {
         "__init__": ["change", "banks"], "bank": ["entry"], "bank_map": [], "meeting": ["space"],
         "fits": ["spread", "width"], "touched": ["spread", "width"], "beats": ["spread", "width"]},
     ("prices", "Prices"): {"__init__": ["swap", "transfer", "beat"]},
+    ("threes", "Three"): {"__init__": ["one", "two", "three"], "numbers": [], "leading": ["other"]},
+    ("cores", "Core"): {},
+    ("sizes", "Size"): {
+        "__init__": ["first", "cycle", "gain"], "__call__": ["n"], "__add__": None, "__radd__": None, "__sub__": None,
+        "__rsub__": None, "__mul__": None, "__rmul__": None, "__eq__": None, "greater": ["other"],
+        "below_at": ["other"], "equal_at": ["other"]},
+    ("sizes", "Sizes"): {
+        "__init__": ["few", "start", "period", "rests"], "__contains__": None, "__and__": None, "__or__": None,
+        "__invert__": None, "__eq__": None, "least": [], "many_below": ["n"], "is_all": None, "is_empty": None},
+    ("families", "Family"): {"__init__": ["outs", "ins", "rules"], "sized": ["n"], "__add__": None, "__eq__": None},
 }
 
 
@@ -59,6 +73,11 @@ class InterfaceTest(unittest.TestCase):
                 made = getattr(module, function)
                 self.assertEqual(made.__module__, "laneswap." + name)
                 self.assertEqual(list(inspect.signature(made).parameters), parameters)
+
+    def test_properties(self):
+        kind = import_module("laneswap.sizes").Sizes
+        self.assertIsInstance(vars(kind)["is_all"], property)
+        self.assertIsInstance(vars(kind)["is_empty"], property)
 
     def test_methods_stand_in_the_class_itself(self):
         for (name, kind), methods in METHODS.items():

@@ -7,8 +7,8 @@ import re
 import unittest
 
 FOLDER = os.path.join(os.path.dirname(os.path.dirname(os.path.abspath(__file__))), "laneswap")
-BUILTINS = """len range enumerate zip min max sum abs sorted reversed int str bool list tuple dict set isinstance ord repr
-any all divmod iter ValueError""".split()
+BUILTINS = """len range enumerate zip min max sum sorted reversed int str bool list tuple dict set isinstance ord repr
+any all divmod iter abs property ValueError""".split()
 BUILTIN_METHODS = """append clear copy count endswith extend find get index insert isalnum isalpha isdigit islower isspace
 isupper items join keys ljust lower lstrip partition pop remove replace reverse rfind rjust rpartition rsplit rstrip
 setdefault split splitlines startswith strip update upper values zfill bit_length isascii add discard""".split()
@@ -88,7 +88,9 @@ class LanguageTest(unittest.TestCase):
             needs[name] = []
             used = [node.id for node in ast.walk(tree) if isinstance(node, ast.Name)]
             for node in ast.walk(tree):
-                if isinstance(node, ast.ImportFrom):
+                if isinstance(node, ast.ImportFrom) and node.module == "math":
+                    self.assertEqual([alias.name for alias in node.names], ["lcm"], name)
+                elif isinstance(node, ast.ImportFrom):
                     self.assertRegex(f"{node.level} {node.module}", r"^0 laneswap\.[a-z]+$")
                     source = node.module.split(".")[1] + ".py"
                     needs[name].append(source)
@@ -140,7 +142,7 @@ class LanguageTest(unittest.TestCase):
 
     def test_functions_and_classes(self):
         for node in self.nodes((ast.FunctionDef, ast.ClassDef)):
-            self.assertEqual(node.decorator_list, [], node.name)
+            self.assertIn([ast.unparse(each) for each in node.decorator_list], [[], ["property"]], node.name)
             self.assertIsNotNone(ast.get_docstring(node) or re.fullmatch("__.*__", node.name), node.name)
         for node in self.nodes(ast.FunctionDef):
             self.assertIsNone(node.returns, node.name)

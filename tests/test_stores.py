@@ -8,19 +8,9 @@ from laneswap.maps import Map, unit_map
 from laneswap.spaces import Space, every
 from laneswap.spreads import Spread
 from laneswap.stores import Store, chain, fitting, store_for
-from tests.drawing import drawn_far, drawn_spread, drawn_undoable
+from tests.drawing import all_spaces, drawn_far, drawn_spread, drawn_undoable
 from tests.wrong import (Place, any_spread, below, check_names, check_wrong, list_of, no_wholes, objects, space, spread,
                          themselves, told_map, wholes, word)
-
-
-def all_spaces(bits):
-    """All Spaces of so few bits."""
-    found = []
-    for words in product(range(2 ** bits), repeat=bits):
-        made = Space(bits, words)
-        if made not in found:
-            found.append(made)
-    return found
 
 
 def nested(one, other):

@@ -73,6 +73,13 @@ def any_space(name, good):
     return Place(name, good, themselves(wrong))
 
 
+def spaces_list(name, good):
+    """A list of Spaces of the same bits."""
+    place = list_of(name, good, [value for value in objects() if not isinstance(value, Space)])
+    place.wrong += themselves([[], (), [*good, Space(11, [1])], (Space(12, []), *good)])
+    return place
+
+
 def any_spread(name, good):
     wrong = [value for value in objects() if not isinstance(value, Spread)]
     return Place(name, good, themselves(wrong))
