@@ -30,6 +30,17 @@ def reduced(words):
     return rows
 
 
+def dimensions_gained(rows, words):
+    """By how many dimensions words enlarge what reduced rows span."""
+    tops = {row.bit_length(): row for row in rows}
+    for word in words:
+        while word.bit_length() in tops:
+            word = word ^ tops[word.bit_length()]
+        if word:
+            tops[word.bit_length()] = word
+    return len(tops) - len(rows)
+
+
 def least_missing(rows):
     """The unit of the lowest bit that is the top of none of the reduced rows."""
     unit = 1

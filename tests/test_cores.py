@@ -202,10 +202,12 @@ class FreeTest(unittest.TestCase):
 
     def test_too_large(self):
         draw = random.Random(9)
-        for bits, many, dimension in [(8, 6, 3), (8, 4, 4), (20, 12, 10)]:
+        found = []
+        for bits, many, dimension in [(7, 10, 3), (8, 12, 3), (8, 6, 4), (20, 12, 10)]:
             spaces = general_spaces(draw, bits, many, dimension)
             large = core(spaces).rest.dimension
             self.assertGreater(large, 6)
+            found.append(large)
             for ask in (lambda: least_for_all(spaces), lambda: free_for_all(spaces, dimension),
                         lambda: free_for_all(spaces, bits)):
                 with self.assertRaises(TooLarge) as caught:
@@ -214,6 +216,7 @@ class FreeTest(unittest.TestCase):
             with self.assertRaises(TooWide) as caught:
                 free_for_all(spaces, dimension - 1)
             self.assertEqual(caught.exception.index, 0)
+        self.assertEqual(min(found), 7)
 
     def test_three_of_any_core(self):
         draw = random.Random(10)

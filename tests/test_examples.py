@@ -3,7 +3,7 @@ import unittest
 from tests.examples import all_examples, answer
 
 MODULES = """words spaces maps spreads tables rounds moves stages hops sums writes stores prices threes cores sizes
-families""".split()
+families ranks growing costs desk""".split()
 
 
 class ExamplesTest(unittest.TestCase):
@@ -18,7 +18,7 @@ class ExamplesTest(unittest.TestCase):
         codes = "\n".join([code for code, _ in all_examples()])
         for module in MODULES:
             self.assertIn(f"from laneswap.{module} import", codes)
-        self.assertEqual(len([code for code, expected in all_examples() if expected]), 48)
+        self.assertEqual(len([code for code, expected in all_examples() if expected]), 61)
 
 
 if __name__ == "__main__":

@@ -23,6 +23,10 @@ FUNCTIONS = {
                "free_banks": ["three", "banks"], "best_banks": ["three", "banks", "weights"]},
     "cores": {"own_number": ["spaces", "chosen"], "core": ["spaces"], "free_for_all": ["spaces", "banks"],
               "least_for_all": ["spaces"]},
+    "ranks": {"rank_size": ["family"], "chain_size": ["families"], "joined_size": ["families"],
+              "common_size": ["families"], "one_to_one": ["family"], "onto": ["family"], "apart": ["one", "other"]},
+    "growing": {"meeting_size": ["access", "banks"], "free_for_three": ["one", "two", "three", "bits"],
+                "growing_rounds": ["one", "other"], "growing_hops": ["one", "other"]},
 }
 METHODS = {
     ("spaces", "Space"): {
@@ -61,6 +65,14 @@ METHODS = {
         "__init__": ["few", "start", "period", "rests"], "__contains__": None, "__and__": None, "__or__": None,
         "__invert__": None, "__eq__": None, "least": [], "many_below": ["n"], "is_all": None, "is_empty": None},
     ("families", "Family"): {"__init__": ["outs", "ins", "rules"], "sized": ["n"], "__add__": None, "__eq__": None},
+    ("growing", "Growing"): {"__init__": ["slots", "lanes"], "sized": ["n"], "copies": []},
+    ("costs", "Cost"): {
+        "__init__": ["terms"], "__call__": ["n"], "__add__": None, "__sub__": None, "__mul__": None, "__rmul__": None,
+        "__eq__": None, "below_at": ["other"], "equal_at": ["other"]},
+    ("desk", "Desk"): {
+        "__init__": [], "put": ["name", "thing"], "drop": ["name"], "rename": ["change"], "keep": ["promise"],
+        "release": ["promise"], "undo": [], "__getitem__": None, "__contains__": None, "__len__": None, "names": [],
+        "promises": [], "holds": ["promise"], "undoable": [], "attempt": ["action"], "trial": ["action"]},
 }
 
 

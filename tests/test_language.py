@@ -8,7 +8,7 @@ import unittest
 
 FOLDER = os.path.join(os.path.dirname(os.path.dirname(os.path.abspath(__file__))), "laneswap")
 BUILTINS = """len range enumerate zip min max sum sorted reversed int str bool list tuple dict set isinstance ord repr
-any all divmod iter abs property ValueError""".split()
+any all divmod iter abs property ValueError TypeError""".split()
 BUILTIN_METHODS = """append clear copy count endswith extend find get index insert isalnum isalpha isdigit islower isspace
 isupper items join keys ljust lower lstrip partition pop remove replace reverse rfind rjust rpartition rsplit rstrip
 setdefault split splitlines startswith strip update upper values zfill bit_length isascii add discard""".split()
@@ -17,7 +17,7 @@ __and__ __or__ __invert__ __radd__ __rsub__ __rmul__""".split()
 NOT_USED = """register mro elements open input law version_info with_traceback add_note type typing enum Enum Flag Generic
 Protocol ABC NamedTuple namedtuple map filter hash next format eval exec compile id vars dir super sys""".split()
 STATEMENTS = (ast.Return, ast.Assign, ast.For, ast.While, ast.If, ast.Raise, ast.Expr, ast.Pass, ast.Break, ast.Continue,
-              ast.FunctionDef, ast.ClassDef, ast.ImportFrom)
+              ast.FunctionDef, ast.ClassDef, ast.ImportFrom, ast.Try)
 EXPRESSIONS = (ast.BoolOp, ast.BinOp, ast.UnaryOp, ast.IfExp, ast.Dict, ast.List, ast.Tuple, ast.Set, ast.ListComp,
                ast.DictComp, ast.SetComp, ast.Compare, ast.Call, ast.Constant, ast.Attribute, ast.Subscript, ast.Name,
                ast.Slice, ast.JoinedStr, ast.FormattedValue)
@@ -63,6 +63,16 @@ class LanguageTest(unittest.TestCase):
             self.assertIsInstance(node, EXPRESSIONS, ast.unparse(node))
         for node in self.nodes(ast.BinOp):
             self.assertNotIsInstance(node.op, (ast.Div, ast.MatMult, ast.Pow), ast.unparse(node))
+
+    def test_finally_only_restores(self):
+        for node in self.nodes(ast.Try):
+            self.assertEqual((node.handlers, node.orelse), ([], []))
+            for each in node.finalbody + [inner for outer in node.finalbody if isinstance(outer, ast.If) for inner in outer.body]:
+                self.assertIsInstance(each, (ast.Assign, ast.If))
+                if isinstance(each, ast.Assign):
+                    self.assertRegex(ast.unparse(each), r"^self\._[a-z]+ = [a-z]+$")
+                else:
+                    self.assertRegex(ast.unparse(each.test), r"^[a-z]+ is None$")
 
     def test_module_level(self):
         for name, tree in self.trees.items():
