@@ -230,7 +230,8 @@ class ChangesTest(unittest.TestCase):
 class WrongTest(unittest.TestCase):
 
     def values(self):
-        return [None, -1, 0, True, "a", (), [], {}, STRANGE, Space(1, [1]), Sizes([], 0, 1, [0]), ROW.sized(2)]
+        return [None, -1, 0, True, "a", (), [], {}, STRANGE, Space(1, [1]), Sizes([], 0, 1, [0]), ROW.sized(2),
+                Three(Space(1, []), Space(1, []), Space(1, []))]
 
     def test_wrong_values(self):
         families = {name: Place(name, good, themselves([*self.values(), TALL, LINE]))

@@ -7,6 +7,7 @@ from laneswap.families import Family
 from laneswap.ranks import apart, chain_size, common_size, joined_size, one_to_one, onto, rank_size
 from laneswap.sizes import Size, Sizes
 from laneswap.spaces import Space
+from laneswap.threes import Three
 from tests.drawing import drawn_family, drawn_tracks
 from tests.wrong import STRANGE, Place, check_names, check_wrong, list_of, themselves
 
@@ -234,7 +235,8 @@ class SeveralTest(unittest.TestCase):
 class WrongTest(unittest.TestCase):
 
     def other_values(self):
-        return [None, -1, 0, True, "a", (), (NEAR, NEAR), {}, STRANGE, Space(1, [1]), Size([], [0], 0), NEAR.sized(2)]
+        return [None, -1, 0, True, "a", (), (NEAR, NEAR), {}, STRANGE, Space(1, [1]), Size([], [0], 0), NEAR.sized(2),
+                Sizes([], 0, 1, [0]), Three(Space(1, []), Space(1, []), Space(1, []))]
 
     def test_wrong_values(self):
         family = Place("family", NEAR, themselves([*self.other_values(), [NEAR]]))

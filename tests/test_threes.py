@@ -300,7 +300,8 @@ class BanksTest(unittest.TestCase):
 class WrongTest(unittest.TestCase):
 
     def three_place(self, name, good):
-        return Place(name, good, themselves(objects() + [good.spaces, list(good.spaces), every(2)]))
+        others = [value for value in objects() if not isinstance(value, Three)]
+        return Place(name, good, themselves(others + [good.spaces, list(good.spaces), every(2)]))
 
     def test_wrong_values(self):
         lines = Three(Space(2, [1]), Space(2, [2]), Space(2, [3]))

@@ -3,10 +3,13 @@
 from itertools import combinations
 
 from laneswap.errors import BadValue
+from laneswap.families import Family
 from laneswap.maps import Map
+from laneswap.sizes import Size, Sizes
 from laneswap.spaces import Space
 from laneswap.spreads import Spread
 from laneswap.tables import Table
+from laneswap.threes import Three
 
 STRANGE = object()
 
@@ -25,7 +28,7 @@ def themselves(values):
 
 
 def no_wholes():
-    return [None, -1, True, False, "1", "", [1], (1,), {}, 1.0, b"1", STRANGE, Space(1, [1])]
+    return [None, -1, True, False, "1", "", [1], (1,), {}, 1.0, b"1", STRANGE, Space(1, [1]), Size([], [1], 0)]
 
 
 def whole(name, good):
@@ -60,7 +63,8 @@ def words(name, good, bits):
 def objects():
     """Values that are no Space, Map, Spread or Table of 1 to 9 bits."""
     return [None, -1, 0, True, "a", [1], (), STRANGE, Space(11, [1]), Map(12, [1] * 13), Map(12, []),
-            Spread(14, [1 << bit for bit in range(14)], []), Table([("a", 15)])]
+            Spread(14, [1 << bit for bit in range(14)], []), Table([("a", 15)]), Size([], [1], 0), Sizes([], 0, 2, [1]),
+            Family([("a", 0)], [("a", 0)], []), Three(Space(11, [1]), Space(11, [2]), Space(11, [3]))]
 
 
 def space(name, good):
