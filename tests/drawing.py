@@ -166,14 +166,14 @@ def drawn_triple(draw, bits, numbers):
 
 
 def kernels_of_all_maps(bits, banks):
-    """For each map from so few bits to so many the words with image 0, as the bits that are 1 in a number."""
-    found = []
+    """The kernels of all maps from so few bits to so many, each once: its words as the bits that are 1 in a number."""
+    found = set()
     for columns in product(range(2 ** banks), repeat=bits):
         images = [0]
         for column in columns:
             images += [image ^ column for image in images]
-        found.append(sum([1 << word for word, image in enumerate(images) if image == 0]))
-    return found
+        found.add(sum([1 << word for word, image in enumerate(images) if image == 0]))
+    return sorted(found)
 
 
 def marked(space):

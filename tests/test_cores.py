@@ -146,6 +146,22 @@ class FreeTest(unittest.TestCase):
                         self.check_all(spaces, banks, exists, found)
         self.assertGreater(min(found.values()), 100)
 
+    def test_all_bank_maps_of_larger_cores(self):
+        draw = random.Random(13)
+        found, cores = {True: 0, False: 0}, {}
+        for bits, banks in ((5, 2), (5, 3), (6, 2)):
+            kernels = kernels_of_all_maps(bits, banks)
+            for _ in range(150):
+                many = draw.randrange(4, 9)
+                spaces = draw.choice([drawn_list(draw, bits, many), general_spaces(draw, bits, many, draw.choice((1, 2, banks)))])
+                asked = [marked(each) for each in spaces]
+                exists = any([all([kernel & words == 1 for words in asked]) for kernel in kernels])
+                self.check_all(spaces, banks, exists, found)
+                dimension = core(spaces).rest.dimension
+                cores[dimension] = cores.get(dimension, 0) + 1
+        self.assertGreater(min(found.values()), 100)
+        self.assertGreater(min(cores[5], cores[6]), 20)
+
     def check_all(self, spaces, banks, exists, found):
         wide = [index for index, each in enumerate(spaces) if each.dimension > banks]
         if wide:
