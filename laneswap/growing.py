@@ -59,11 +59,13 @@ def free_for_three(one, two, three, bits):
 def filling_at(accesses, bits):
     """The set of the sizes at which three accesses fill a space of one more than bits(n) dimensions."""
     one, two, three = accesses
-    found = (bits - 1).equal_at(common_size(accesses))
+    found = (bits - 1).equal_at(common_size(accesses)) & (bits + 1).equal_at(joined_size(accesses))
     for access in accesses:
         found = found & bits.equal_at(rank_size(access))
-    # Each two together are all three together, so they are unlike.
-    for several in [[one, two], [one, three], [two, three], accesses]:
+    if found.is_empty:
+        return found
+    # They are unlike where each two of them together are all three together.
+    for several in [[one, two], [one, three], [two, three]]:
         found = found & (bits + 1).equal_at(joined_size(several))
     return found
 
